@@ -1,0 +1,1 @@
+"""Scores of one board: contracts, matchpoints, percentages and IMPs, in whole numbers and exact fractions."""
