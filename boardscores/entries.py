@@ -1,7 +1,7 @@
 """The entries of a sheet, kept in a dict by their tables, and what is reckoned from them."""
 
 from boardscores.ratio import lowest, rounded
-from boardscores.results import difference_imps, sum_of_means, versus
+from boardscores.results import datum_of, difference_imps, sum_of_means, versus
 
 
 class RealEntry:
@@ -21,18 +21,23 @@ class ArtificialEntry:
 
 
 def top_of(entries):
-    """The top of a sheet that has entries."""
-    return 2 * (len(entries) - 1)
+    """The top of a sheet, 0 if it has no entries."""
+    return 2 * max(len(entries) - 1, 0)
+
+
+def group_tables(entries, group):
+    """The tables of the real entries of a group."""
+    found = []
+    for table, entry in entries.items():
+        if isinstance(entry, RealEntry) and entry.group == group:
+            found.append(table)
+    return found
 
 
 def other_results(entries, table):
     """The results of the other real entries of a real entry's group."""
-    group = entries[table].group
-    found = []
-    for other, entry in entries.items():
-        if other != table and isinstance(entry, RealEntry) and entry.group == group:
-            found.append(entry.result)
-    return found
+    tables = group_tables(entries, entries[table].group)
+    return [entries[other].result for other in tables if other != table]
 
 
 def real_matchpoints(entries, table):
@@ -43,6 +48,13 @@ def real_matchpoints(entries, table):
     stretched = (mean_sum[0] + mean_sum[1]) * len(entries)
     below = mean_sum[1] * group_size
     return lowest(stretched - below, below)
+
+
+def matchpoints_with(entries, table, result):
+    """What north and south's matchpoints of a real entry would be with this result."""
+    changed = dict(entries)
+    changed[table] = RealEntry(entries[table].group, result)
+    return real_matchpoints(changed, table)
 
 
 def matchpoints(entries, table):
@@ -81,3 +93,14 @@ def cross_imps(entries, table):
         return (0, 1)
     mean_sum = sum_of_means(difference_imps, entries[table].result, others)
     return lowest(mean_sum[0], mean_sum[1] * len(others))
+
+
+def group_datum(entries, group, ends):
+    """The datum of a group without so many results at each end, None if there is none."""
+    return datum_of([entries[table].result for table in group_tables(entries, group)], ends)
+
+
+def butler_imps(result, datum):
+    """The mean of the IMPs of a result against a datum: a fraction."""
+    mean = sum_of_means(difference_imps, result, [[(1, datum)]])
+    return lowest(mean[0], mean[1])

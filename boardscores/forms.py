@@ -12,9 +12,24 @@ RANGES = {
     7: ((1, 99),),
     8: (),
     9: ((1, 99),),
+    10: ((0, 9), (0, 30)),
+    11: ((1, 99), (0, 30)),
+    12: ((-1000000, 1000000),),
+    13: (),
+    14: ((-1000000, 1000000),),
+    15: (),
+    16: ((1, 99),),
+    17: (),
+    18: ((1, 99),),
 }
-WITH_ROW = (1,)
-OUTCOME_LENGTHS = (2, 4, 6, 8)
+# For each call with a row: the fewest and the most parts of that row, and the ranges of the numbers of each part.
+ROWS = {
+    1: (1, 4, ((1, 1000), (-20000, 20000))),
+    13: (0, 40, ((-20000, 20000), (-20000, 20000))),
+    14: (0, 40, ((0, 1000000),)),
+    15: (0, 60, ((-1000000, 1000000),)),
+    18: (1, 4, ((1, 1000), (-20000, 20000))),
+}
 
 
 def read_calls(calls):
@@ -26,7 +41,7 @@ def read_calls(calls):
         end = at + 1 + len(RANGES[place])
         plain = calls[at + 1:end]
         row = []
-        if place in WITH_ROW:
+        if place in ROWS:
             start = end + 1
             end = start + calls[start - 1]
             row = calls[start:end]
@@ -40,21 +55,22 @@ def within(number, least, most):
     return least <= number and number <= most
 
 
-def plain_in_form(place, plain):
-    """Whether each plain argument of a call is in its range."""
-    return all([within(number, bounds[0], bounds[1]) for number, bounds in zip(plain, RANGES[place])])
+def all_within(numbers, ranges):
+    """Whether each number is in the range that stands in its place."""
+    return all([within(number, bounds[0], bounds[1]) for number, bounds in zip(numbers, ranges)])
 
 
-def outcomes_in_form(row):
-    """Whether a row is one to four outcomes, each its weight and then its score."""
-    if len(row) not in OUTCOME_LENGTHS:
+def row_in_form(place, row):
+    """Whether the row of a call is as long as told, and each of its numbers in its range."""
+    fewest = ROWS[place][0]
+    most = ROWS[place][1]
+    ranges = ROWS[place][2]
+    size = len(ranges)
+    if len(row) % size != 0 or not within(len(row) // size, fewest, most):
         return False
-    for at in range(0, len(row), 2):
-        if not (within(row[at], 1, 1000) and within(row[at + 1], -20000, 20000)):
-            return False
-    return True
+    return all([all_within(row[at:at + size], ranges) for at in range(0, len(row), size)])
 
 
 def in_form(place, plain, row):
     """Whether a call's arguments and its row are as told; all else is looked at behind this."""
-    return plain_in_form(place, plain) and (place not in WITH_ROW or outcomes_in_form(row))
+    return all_within(plain, RANGES[place]) and (place not in ROWS or row_in_form(place, row))

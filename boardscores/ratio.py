@@ -19,3 +19,9 @@ def lowest(above, below):
 def rounded(above, below):
     """The whole number nearest to above / below, halves up."""
     return (2 * above + below) // (2 * below)
+
+
+def rounded_to_ten(above, below):
+    """The multiple of ten nearest to above / below, halves away from 0."""
+    without_sign = 10 * rounded(abs(above), 10 * below)
+    return without_sign if above >= 0 else -without_sign

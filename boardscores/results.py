@@ -1,5 +1,6 @@
 """Results: lists of outcomes, each a pair of its weight and its score for north and south."""
 
+from boardscores.ratio import rounded_to_ten
 from boardscores.scale import imps
 
 
@@ -25,6 +26,11 @@ def weight_sum(result):
     return sum([weight for weight, score in result])
 
 
+def score_sum(result):
+    """The sum of a result's weights times scores."""
+    return sum([weight * score for weight, score in result])
+
+
 def weighted_total(measure, first, second):
     """The measure of each outcome's score of the first with each of the second, times both weights, added up."""
     total = 0
@@ -44,3 +50,22 @@ def sum_of_means(measure, result, others):
         above = above * weights + weighted_total(measure, result, other) * below
         below = below * weights
     return (above, below * weight_sum(result))
+
+
+def weight_product(results):
+    """The product of the sums of weights of all the results."""
+    product = 1
+    for result in results:
+        product *= weight_sum(result)
+    return product
+
+
+def datum_of(results, ends):
+    """The datum of the results without so many at each end, None if there is none."""
+    if len(results) <= 2 * ends:
+        return None
+    # Over one number below the line for all, the means are in the order of the whole numbers above it.
+    below = weight_product(results)
+    means = sorted([score_sum(result) * (below // weight_sum(result)) for result in results])
+    kept = means[ends:len(means) - ends]
+    return rounded_to_ten(sum(kept), below * len(kept))

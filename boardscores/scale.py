@@ -1,4 +1,4 @@
-"""The scale of IMPs."""
+"""The scale of IMPs, and how far a number comes on a scale of steps."""
 
 STEPS = (
     20, 50, 90, 130, 170, 220, 270, 320, 370, 430, 500, 600,
@@ -6,7 +6,12 @@ STEPS = (
 )
 
 
+def steps_reached(steps, number):
+    """How many of the steps are not above the number without its sign."""
+    return len([step for step in steps if step <= abs(number)])
+
+
 def imps(difference):
     """The IMPs that a difference brings, below 0 if it is below 0."""
-    reached = len([step for step in STEPS if step <= abs(difference)])
+    reached = steps_reached(STEPS, difference)
     return reached if difference >= 0 else -reached

@@ -1,9 +1,12 @@
 """The calls on one board's sheet, and what they answer."""
 
 from boardscores.contract import contract_score, north_south_score
-from boardscores.entries import ArtificialEntry, RealEntry, cross_imps, matchpoints, percentages
+from boardscores.entries import ArtificialEntry, RealEntry, butler_imps, cross_imps, group_datum
+from boardscores.entries import matchpoints, matchpoints_with, percentages, top_of
 from boardscores.forms import in_form, read_calls
 from boardscores.results import paired
+from boardscores.scale import imps
+from boardscores.teams import match_totals, places, rises, victory_points
 
 MOST_ENTRIES = 60
 
@@ -11,6 +14,9 @@ DONE = 0
 OUT_OF_FORM = -1
 NO_ENTRY = -2
 ARTIFICIAL = -3
+NO_DATUM = -3
+NO_DATUM_TO_COMPARE = -4
+NOT_RISING = -5
 FULL = -6
 
 
@@ -20,6 +26,13 @@ def put(entries, table, entry):
         return FULL
     entries[table] = entry
     return DONE
+
+
+def real_or_refusal(entries, table):
+    """DONE if the table's entry is real, else what says that it is not."""
+    if table not in entries:
+        return NO_ENTRY
+    return ARTIFICIAL if isinstance(entries[table], ArtificialEntry) else DONE
 
 
 def answer_score(entries, plain, row):
@@ -75,11 +88,74 @@ def answer_sheet(entries, plain, row):
 
 
 def answer_cross(entries, plain, row):
+    refusal = real_or_refusal(entries, plain[0])
+    if refusal != DONE:
+        return [refusal]
+    points = cross_imps(entries, plain[0])
+    return [DONE, points[0], points[1]]
+
+
+def answer_datum(entries, plain, row):
+    datum = group_datum(entries, plain[0], plain[1])
+    return [NO_DATUM] if datum is None else [DONE, datum]
+
+
+def answer_butler(entries, plain, row):
+    refusal = real_or_refusal(entries, plain[0])
+    if refusal != DONE:
+        return [refusal]
+    entry = entries[plain[0]]
+    datum = group_datum(entries, entry.group, plain[1])
+    if datum is None:
+        return [NO_DATUM_TO_COMPARE]
+    points = butler_imps(entry.result, datum)
+    return [DONE, points[0], points[1]]
+
+
+def answer_imps(entries, plain, row):
+    return [DONE, imps(plain[0])]
+
+
+def answer_match(entries, plain, row):
+    totals = match_totals(row)
+    return [DONE, totals[0] - totals[1], totals[0], totals[1]]
+
+
+def answer_vp(entries, plain, row):
+    if not rises(row):
+        return [NOT_RISING]
+    points = victory_points(plain[0], row)
+    return [DONE, points[0], points[1]]
+
+
+def answer_ranks(entries, plain, row):
+    answer = [DONE]
+    for place, sharing in places(row):
+        answer.extend([place, sharing])
+    return answer
+
+
+def answer_result(entries, plain, row):
     if plain[0] not in entries:
         return [NO_ENTRY]
-    if isinstance(entries[plain[0]], ArtificialEntry):
-        return [ARTIFICIAL]
-    points = cross_imps(entries, plain[0])
+    entry = entries[plain[0]]
+    if isinstance(entry, ArtificialEntry):
+        return [DONE, 0, entry.north_south, entry.east_west]
+    answer = [DONE, 1, entry.group]
+    for weight, score in entry.result:
+        answer.extend([weight, score])
+    return answer
+
+
+def answer_top(entries, plain, row):
+    return [DONE, len(entries), top_of(entries)]
+
+
+def answer_would(entries, plain, row):
+    refusal = real_or_refusal(entries, plain[0])
+    if refusal != DONE:
+        return [refusal]
+    points = matchpoints_with(entries, plain[0], paired(row))
     return [DONE, points[0], points[1]]
 
 
@@ -94,6 +170,15 @@ ANSWERERS = {
     7: answer_percent,
     8: answer_sheet,
     9: answer_cross,
+    10: answer_datum,
+    11: answer_butler,
+    12: answer_imps,
+    13: answer_match,
+    14: answer_vp,
+    15: answer_ranks,
+    16: answer_result,
+    17: answer_top,
+    18: answer_would,
 }
 
 

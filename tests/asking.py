@@ -5,8 +5,11 @@ from boardscores.sheet import answers
 PLACES = {
     "score": 0, "enter": 1, "play": 2, "pass": 3, "art": 4,
     "remove": 5, "mp": 6, "percent": 7, "sheet": 8, "cross": 9,
+    "datum": 10, "butler": 11, "imps": 12, "match": 13, "vp": 14,
+    "ranks": 15, "result": 16, "top": 17, "would": 18,
 }
 FAR = 10 ** 18
+MILLION = 10 ** 6
 
 # For each call the range of each plain argument, and a row that is as told if the call has one.
 FORMS = {
@@ -18,8 +21,46 @@ FORMS = {
     "remove": ([(1, 99)], None),
     "mp": ([(1, 99)], None),
     "percent": ([(1, 99)], None),
+    "sheet": ([], None),
     "cross": ([(1, 99)], None),
+    "datum": ([(0, 9), (0, 30)], None),
+    "butler": ([(1, 99), (0, 30)], None),
+    "imps": ([(-MILLION, MILLION)], None),
+    "match": ([], [420, -50]),
+    "vp": ([(-MILLION, MILLION)], [0, 10, 20]),
+    "ranks": ([], [3, 1, 3]),
+    "result": ([(1, 99)], None),
+    "top": ([], None),
+    "would": ([(1, 99)], [1, 420]),
 }
+
+# For each call with a row the lengths that it may have, and the ranges of its numbers, over and over.
+ROWS = {
+    "enter": ((2, 4, 6, 8), [(1, 1000), (-20000, 20000)]),
+    "match": (tuple(range(0, 81, 2)), [(-20000, 20000)]),
+    "vp": (tuple(range(41)), [(0, MILLION)]),
+    "ranks": (tuple(range(61)), [(-MILLION, MILLION)]),
+    "would": ((2, 4, 6, 8), [(1, 1000), (-20000, 20000)]),
+}
+STEPS = [
+    20, 50, 90, 130, 170, 220, 270, 320, 370, 430, 500, 600,
+    750, 900, 1100, 1300, 1500, 1750, 2000, 2250, 2500, 3000, 3500, 4000,
+]
+
+# Sheets that several tests ask about.
+ONE_GROUP = [
+    ("enter", 1, 0, [1, 420]),
+    ("enter", 2, 0, [1, 420]),
+    ("enter", 3, 0, [1, -50]),
+    ("enter", 4, 0, [1, 170]),
+]
+MIXED = [
+    ("enter", 10, 2, [3, 620, 1, -100]),
+    ("play", 20, 2, 4, 3, 0, 0, 1, 10),
+    ("pass", 30, 7),
+    ("art", 40, 60, 30),
+    ("art", 50, 33, 67),
+]
 
 
 def flat(calls):
@@ -64,7 +105,7 @@ def ask_last(*calls):
 
 def look(tables):
     """Calls that show all that can be seen of these tables."""
-    calls = [("sheet",)]
+    calls = [("sheet",), ("top",)] + [("datum", group, 0) for group in range(10)]
     for table in tables:
-        calls += [("mp", table), ("percent", table), ("cross", table)]
+        calls += [("mp", table), ("percent", table), ("cross", table), ("butler", table, 0), ("result", table)]
     return calls

@@ -2,12 +2,7 @@
 
 import unittest
 
-from asking import ask, ask_last
-
-STEPS = [
-    20, 50, 90, 130, 170, 220, 270, 320, 370, 430, 500, 600,
-    750, 900, 1100, 1300, 1500, 1750, 2000, 2250, 2500, 3000, 3500, 4000,
-]
+from asking import STEPS, ask, ask_last
 
 
 class CrossTest(unittest.TestCase):

@@ -150,7 +150,7 @@ class RemoveTest(unittest.TestCase):
     def test_there_is_none_any_more(self):
         for entry in (("enter", 4, 1, [1, 10]), ("play", 4, 1, 1, 0, 0, 0, 0, 7), ("pass", 4, 1), ("art", 4, 50, 50)):
             answer = ask(entry, ("remove", 4), ("remove", 4), *look([4]), entry)
-            self.assertEqual(answer[1:-1], [[0], [-2], [0], [-2], [-2], [-2]])
+            self.assertEqual(answer[1:-1], [[0], [-2], [0], [0, 0, 0]] + [[-3]] * 10 + [[-2]] * 5)
             self.assertEqual(answer[-1][0], 0)
 
     def test_others_stay_as_if_it_had_not_been(self):

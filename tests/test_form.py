@@ -32,6 +32,7 @@ NODES = (
     ast.Lambda, ast.JoinedStr, ast.FormattedValue, ast.expr_context, ast.operator, ast.boolop, ast.unaryop, ast.cmpop,
 )
 
+WALKED = ("zip", "enumerate", "reversed", "range", "items", "keys", "values")
 BUILT_IN = set(vars(builtins))
 
 
@@ -41,6 +42,29 @@ def called_by(node):
         if isinstance(getattr(node, field, None), str):
             return getattr(node, field)
     return None
+
+
+def trees():
+    return [(path, ast.parse(path.read_text(encoding="ascii"))) for path in FILES]
+
+
+def top_names(tree):
+    """The names bound at a file's top, each as often as it is bound; and those among them of classes and imports."""
+    names, apart = [], []
+    for node in tree.body:
+        if isinstance(node, ast.ImportFrom):
+            apart += [alias.asname or alias.name for alias in node.names]
+        elif isinstance(node, ast.ClassDef):
+            apart.append(node.name)
+        elif isinstance(node, ast.FunctionDef):
+            names.append(node.name)
+        elif isinstance(node, ast.Assign):
+            names.append(node.targets[0].id)
+    return names + apart, apart
+
+
+def drawn_from(tree):
+    return [node.module.split(".")[1] for node in tree.body if isinstance(node, ast.ImportFrom)]
 
 
 class FormTest(unittest.TestCase):
@@ -83,6 +107,73 @@ class FormTest(unittest.TestCase):
                 self.assertEqual(node.level, 0, name)
                 self.assertRegex(node.module, r"^boardscores\.[a-z_]+$", name)
                 self.assertNotIn("*", [alias.name for alias in node.names], name)
+
+    def test_imports_come_from_where_the_name_is_defined(self):
+        found = {path.stem: tree for path, tree in trees()}
+        for path, tree in trees():
+            for node in tree.body:
+                if isinstance(node, ast.ImportFrom):
+                    source = found[node.module.split(".")[1]]
+                    defined = [part.name for part in source.body if isinstance(part, (ast.FunctionDef, ast.ClassDef))]
+                    for alias in node.names:
+                        self.assertIn(alias.name, defined, path.name)
+
+    def test_no_two_files_draw_from_one_another(self):
+        left = {path.stem: drawn_from(tree) for path, tree in trees()}
+        while left:
+            free = [stem for stem, drawn in left.items() if not set(drawn) & set(left)]
+            self.assertNotEqual(free, [], left)
+            for stem in free:
+                left.pop(stem)
+
+    def test_names_of_a_files_top(self):
+        for path, tree in trees():
+            names, apart = top_names(tree)
+            self.assertEqual(len(names), len(set(names)), path.name)
+            for node in tree.body:
+                self.assertIsInstance(node, (ast.Expr, ast.ImportFrom, ast.FunctionDef, ast.ClassDef, ast.Assign))
+                if isinstance(node, ast.Assign):
+                    inner = list(ast.walk(node.value))[1:]
+                    self.assertFalse([part for part in inner if isinstance(part, (ast.List, ast.Dict))], path.name)
+
+    def test_locals_bear_no_name_of_a_class_or_an_import(self):
+        for path, tree in trees():
+            apart = top_names(tree)[1]
+            for outer in tree.body:
+                if isinstance(outer, ast.Assign):
+                    continue
+                for node in ast.walk(outer):
+                    if isinstance(node, ast.arg) or isinstance(node, ast.Name) and isinstance(node.ctx, ast.Store):
+                        self.assertNotIn(called_by(node), apart, path.name)
+
+    def test_walked_at_once(self):
+        for path, tree in trees():
+            walked = []
+            for node in ast.walk(tree):
+                if isinstance(node, (ast.For, ast.comprehension)):
+                    walked.append(node.iter)
+                if isinstance(node, ast.Call) and isinstance(node.func, ast.Name):
+                    walked += node.args[:1]
+            for node in ast.walk(tree):
+                if isinstance(node, ast.Call) and called_by(node.func) in WALKED:
+                    self.assertIn(node, walked, (path.name, node.lineno))
+
+    def test_smaller_rules(self):
+        for name, node in self.nodes():
+            if isinstance(node, (ast.Pow, ast.Global, ast.Starred, ast.Set)):
+                self.fail((name, node))
+            if isinstance(node, ast.Constant) and isinstance(node.value, str):
+                self.assertNotIn("%", node.value, name)
+            if isinstance(node, ast.Compare) and isinstance(node.ops[0], (ast.Is, ast.IsNot)):
+                self.assertIn(getattr(node.comparators[0], "value", 0), (None, True, False), name)
+            if isinstance(node, ast.comprehension):
+                self.assertLessEqual(len(node.ifs), 1, name)
+            if isinstance(node, ast.ListComp):
+                self.assertEqual(len(node.generators), 1, name)
+            if isinstance(node, ast.ExceptHandler):
+                self.assertNotIn(called_by(node.type), (None, "Exception", "TypeError"), name)
+            if isinstance(node, (ast.FunctionDef, ast.arg)):
+                self.assertIsNone(getattr(node, "returns", None) or getattr(node, "annotation", None), name)
 
     def test_names(self):
         for name, node in self.nodes():

@@ -2,7 +2,7 @@
 
 import unittest
 
-from asking import ask, ask_last
+from asking import MIXED, ONE_GROUP, ask, ask_last
 
 
 def asked_of_all(call, tables, *entries):
@@ -10,12 +10,6 @@ def asked_of_all(call, tables, *entries):
     return ask(*entries, *[(call, table) for table in tables])[len(entries):]
 
 
-ONE_GROUP = [
-    ("enter", 1, 0, [1, 420]),
-    ("enter", 2, 0, [1, 420]),
-    ("enter", 3, 0, [1, -50]),
-    ("enter", 4, 0, [1, 170]),
-]
 TWO_GROUPS = [
     ("enter", 1, 0, [1, 100]),
     ("enter", 2, 0, [1, 50]),
@@ -26,13 +20,6 @@ TWO_GROUPS = [
 WEIGHTED = [
     ("enter", 1, 0, [60, 420, 40, -50]),
     ("enter", 2, 0, [1, 420]),
-]
-MIXED = [
-    ("enter", 10, 2, [3, 620, 1, -100]),
-    ("play", 20, 2, 4, 3, 0, 0, 1, 10),
-    ("pass", 30, 7),
-    ("art", 40, 60, 30),
-    ("art", 50, 33, 67),
 ]
 
 

@@ -2,7 +2,7 @@
 
 import unittest
 
-from asking import FAR, FORMS, ask, look
+from asking import FAR, FORMS, ROWS, ask, look
 
 SOME = [
     ("enter", 1, 0, [1, 100]),
@@ -17,17 +17,24 @@ def wrong_values(least, most):
     return [least - 1, most + 1, least - 50, most + 1000, -FAR, FAR]
 
 
-def bad_rows():
+def good_row(name, length):
+    """A row of this length with each number in its range, and rising where that is asked."""
+    if name in ("enter", "would"):
+        return [1, 10] * (length // 2) + [1] * (length % 2)
+    return [10 * at for at in range(length)]
+
+
+def bad_rows(name):
     """Rows that are not as told: of another length, or with one bad number in each place."""
-    rows = [[1, 10] * (length // 2) + [1] * (length % 2) for length in (0, 1, 3, 5, 7, 9, 10, 12, 99, 100)]
-    for length in (2, 4, 6, 8):
+    lengths, ranges = ROWS[name]
+    rows = [good_row(name, length) for length in range(101) if length not in lengths]
+    for length in sorted({lengths[0], lengths[1], lengths[2], lengths[-1]}):
         for at in range(length):
-            least, most = (1, 1000) if at % 2 == 0 else (-20000, 20000)
-            for value in wrong_values(least, most):
-                row = [1, 10] * (length // 2)
+            for value in wrong_values(*ranges[at % len(ranges)]):
+                row = good_row(name, length)
                 row[at] = value
                 rows.append(row)
-    for length in (0, 1, 100):
+    for length in (1, 100):
         rows.append([FAR] * length)
     return rows
 
@@ -38,7 +45,7 @@ def call_with(name, plain):
 
 
 def bad_calls():
-    """Each call with each plain argument out of its range, and enter with each bad row."""
+    """Each call with each plain argument out of its range, and each call that has a row with each bad row."""
     calls = []
     for name, (ranges, row) in FORMS.items():
         for at, (least, most) in enumerate(ranges):
@@ -47,8 +54,9 @@ def bad_calls():
                 plain = [bounds[0] for bounds in ranges]
                 plain[at] = value
                 calls.append(call_with(name, plain))
-    for row in bad_rows():
-        calls.append(("enter", 1, 0, row))
+    for name in ROWS:
+        plain = [max(bounds[0], 0) for bounds in FORMS[name][0]]
+        calls += [(name, *plain, row) for row in bad_rows(name)]
     calls.append(("enter", 0, 0, []))
     calls.append(("enter", 100, 10, [0, 20001]))
     return calls
@@ -84,29 +92,66 @@ class WrongInputsTest(unittest.TestCase):
                     self.assertEqual(ask(*FULL, call_with(name, plain))[-1], [-1], (name, plain))
             for value in wrong_values(1, 99):
                 self.assertEqual(ask(*FULL, call_with(name, [value] + good[1:]))[-1], [-1], (name, value))
-        for row in bad_rows():
+        for row in bad_rows("enter"):
             self.assertEqual(ask(*FULL, ("enter", 99, 0, row))[-1], [-1], row)
 
     def test_ahead_of_no_entry_and_of_artificial(self):
         everywhere = [("art", table, 50, 50) for table in range(1, 61)]
-        for name in ("remove", "mp", "percent", "cross"):
+        for name in ("remove", "mp", "percent", "cross", "result"):
             for value in wrong_values(1, 99):
                 for before in ([], SOME, everywhere):
                     self.assertEqual(ask(*before, (name, value))[-1], [-1], (name, value))
+        for before in ([], SOME, everywhere):
+            for value in wrong_values(1, 99):
+                self.assertEqual(ask(*before, ("butler", value, 30), ("would", value, [1, 0]))[-2:], [[-1], [-1]])
+            for value in wrong_values(0, 30):
+                for table in (1, 4, 99):
+                    self.assertEqual(ask(*before, ("butler", table, value))[-1], [-1], (table, value))
+            for row in bad_rows("would"):
+                for table in (1, 4, 99):
+                    self.assertEqual(ask(*before, ("would", table, row))[-1], [-1], (table, row))
+
+    def test_ahead_of_no_datum(self):
+        for before in ([], SOME):
+            for value in wrong_values(0, 30):
+                for group in (0, 1, 9):
+                    self.assertEqual(ask(*before, ("datum", group, value))[-1], [-1], (group, value))
+            for value in wrong_values(0, 9):
+                for ends in (0, 1, 30):
+                    self.assertEqual(ask(*before, ("datum", value, ends))[-1], [-1], (value, ends))
 
     def test_ends_of_each_range_are_taken(self):
+        before = [("pass", 1, 0), ("pass", 99, 0), ("pass", 2, 9)]
         for name, (ranges, row) in FORMS.items():
             for at, bounds in enumerate(ranges):
                 for value in bounds:
                     plain = [pair[0] for pair in ranges]
                     plain[at] = value
-                    before = [("pass", 1, 0), ("pass", 99, 0)]
-                    self.assertEqual(ask(*before, call_with(name, plain))[-1][0], 0, (name, plain))
+                    # No sheet has more than 60 entries, so that no group has a datum without 30 at each end.
+                    first = {("datum", 30): -3, ("butler", 30): -4}.get((name, plain[-1] if plain else 0), 0)
+                    self.assertEqual(ask(*before, call_with(name, plain))[-1][0], first, (name, plain))
+
+    def test_rows_of_each_length_told_with_ends_of_the_ranges_in_each_place(self):
+        for name, (lengths, ranges) in ROWS.items():
+            plain = [max(bounds[0], 0) for bounds in FORMS[name][0]]
+            for length in lengths:
+                self.assertEqual(ask(("pass", 1, 0), (name, *plain, good_row(name, length)))[-1][0], 0, (name, length))
+            for at in range(lengths[-1]):
+                for value in ranges[at % len(ranges)]:
+                    row = good_row(name, lengths[-1])
+                    row[at] = value
+                    first = 0
+                    if name == "vp" and row != sorted(set(row)):
+                        first = -5
+                    self.assertEqual(ask(("pass", 1, 0), (name, *plain, row))[-1][0], first, (name, row))
 
     def test_other_refusals_change_nothing(self):
         seen = look([1, 2, 3, 4, 5])
         for call, refusal in ((("remove", 5), -2), (("mp", 5), -2), (("percent", 5), -2), (("cross", 5), -2),
-                              (("cross", 4), -3)):
+                              (("cross", 4), -3), (("datum", 0, 1), -3), (("datum", 9, 0), -3),
+                              (("butler", 5, 0), -2), (("butler", 4, 0), -3), (("butler", 1, 1), -4),
+                              (("vp", 3, [5, 5]), -5), (("result", 5), -2),
+                              (("would", 5, [1, 0]), -2), (("would", 4, [1, 0]), -3)):
             self.assertEqual(ask(*SOME, call, *seen)[4:], [[refusal]] + ask(*SOME, *seen)[4:])
 
     def test_no_entry_is_not_artificial(self):
